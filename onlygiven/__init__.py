@@ -1,0 +1,1 @@
+"""Onlygiven: what can be made of what is given."""
