@@ -1,9 +1,10 @@
 """The readers of events and logs."""
 
 from onlygiven.benchevents import EVENT_FORMS
-from onlygiven.errors import InvalidText, NotUsable
+from onlygiven.errors import InvalidText
 from onlygiven.scanning import LAST_NAME, check_end, check_text, common_length, word_end
 from onlygiven.scanning import entry_end, entry_written, kind_end, name_end
+from onlygiven.usable import check_usable
 
 
 def event_word(line, text):
@@ -66,8 +67,7 @@ def read_event(text):
 
 def read_log(lines):
     """The log whose lines these are."""
-    if not isinstance(lines, list) or not all([isinstance(text, str) for text in lines]):
-        raise NotUsable("lines", -1)
+    check_usable(isinstance(lines, list) and all([isinstance(text, str) for text in lines]), "lines")
     if not lines:
         raise InvalidText(0, 0)
     log = [bench_at_first(lines[0])]

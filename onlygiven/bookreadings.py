@@ -1,15 +1,14 @@
 """The readers of kinds, entries and books."""
 
-from onlygiven.errors import NotUsable
 from onlygiven.kinds import is_number
 from onlygiven.scanning import check_end, check_text, entry_end, entry_written, kind_end
+from onlygiven.usable import check_usable
 
 
 def check_line(text, line):
     """The two parameters of the readers of one line."""
     check_text(text)
-    if not is_number(line):
-        raise NotUsable("line", -1)
+    check_usable(is_number(line), "line")
 
 
 def kind_read(text, *, line=0):

@@ -8,7 +8,8 @@ Nothing here is kept in objects that change, since operators and properties, whi
 the forms of values, too.
 """
 
-from onlygiven.errors import InvalidText, NotUsable
+from onlygiven.errors import InvalidText
+from onlygiven.usable import check_usable
 
 LETTERS = "abcdefghijklmnopqrstuvwxyz"
 DIGITS = "0123456789"
@@ -19,8 +20,7 @@ LAST_NAME = "zzzzzzzz"
 
 def check_text(text):
     """The parameter text of every reader."""
-    if not isinstance(text, str):
-        raise NotUsable("text", -1)
+    check_usable(isinstance(text, str), "text")
 
 
 def common_length(text, word):
@@ -69,7 +69,9 @@ def kind_end(line, text, at):
     """Reads a kind, as far as it goes."""
     depth = 0
     while True:
-        start = run_end(text, at, "(", len(text))
+        start = at
+        while text[start:start + 1] == "(":
+            start = start + 1
         depth = depth + start - at
         # A name right behind a parenthesis has no arrow ahead of it, and an atom does not stand in parentheses.
         may_close = depth > 0 and start == at

@@ -11,11 +11,49 @@ FUNCTIONS = {
         )
     },
     "bookchecker": {"lets_book": "(thing)"},
+    "kindparts": {
+        **{name: "(kind)" for name in ("parts_of", "end_of", "atoms_of", "size_of", "order_of", "kinds_within")},
+        "kind_from": "(parts, end)",
+    },
+    "kindchanges": {
+        "instance_of": "(kind, atom, other)", "with_part": "(kind, part, *, at=0)", "without_part": "(kind, k)",
+    },
+    "bookchanges": {
+        "with_name": "(book, name, kind)", "without_name": "(book, name)", "with_kind": "(book, name, kind)",
+        "handed": "(book, names)", "renamed": "(book, name, other)", "joined": "(book, other)",
+        "instance_book": "(book, atom, other)",
+    },
+    "booktexts": {"entry_text": "(entry)", "book_text": "(book)"},
     "bookreadings": {"kind_read": "(text, *, line=0)", "entry_read": "(text, *, line=0)", "book_read": "(text)"},
     "makerreadings": {"maker_read": "(text)"},
+    "judging": {"can_make": "(book, wish)", "smallest_maker": "(book, wish)"},
+    "counting": {"how_many": "(book, wish)", "how_many_of": "(book, wish, size)", "count_paper": "(book, wish)"},
     "benchevents": {"is_event": "(thing)"},
     "benchreadings": {"read_event": "(text)", "read_log": "(lines)"},
 }
+
+# For each class its module, its base, its own parameters, its methods with their parameters, its properties.
+CLASSES = {
+    "Book": ("bookclasses", "object", "(entries=())", {
+        "__call__": "(self, atom)", "lies_in": "(self, other)", "__eq__": "(self, other)", "__add__": "(self, other)",
+        "__sub__": "(self, other)", "__or__": "(self, other)", "__and__": "(self, other)", "__len__": "(self)",
+        "__iter__": "(self)", "__str__": "(self)", "__getitem__": "(self, at)", "__contains__": "(self, x)",
+    }, ("entries", "atoms")),
+    "Handed": ("bookclasses", "Book", "(book, *names)", {}, ("told",)),
+    "Instance": ("bookclasses", "Book", "(book, atom, other)", {}, ("told",)),
+    "Builder": ("builders", "object", "(book, wish)", {
+        "offers": "(self)", "take": "(self, head)", "set_next": "(self, head)", "__iadd__": "(self, other)",
+        "back": "(self)", "forced": "(self)", "trial": "(self)", "tried": "(self, *heads)",
+    }, ("goals_now", "is_done", "made_now", "next_head")),
+}
+
+CLASS_METHODS = {"Book": {"of": "(*entries)", "read": "(text)"}}
+
+SETTERS = {"Builder": ("next_head",)}
+
+
+def class_called(name):
+    return getattr(importlib.import_module("onlygiven." + CLASSES[name][0]), name)
 
 
 class InterfaceTest(unittest.TestCase):
@@ -27,6 +65,34 @@ class InterfaceTest(unittest.TestCase):
                 self.assertTrue(inspect.isfunction(found))
                 self.assertEqual(found.__module__, "onlygiven." + name)
                 self.assertEqual(str(inspect.signature(found)), parameters)
+
+    def test_classes(self):
+        for name, (module, base, parameters, _, _) in CLASSES.items():
+            found = class_called(name)
+            self.assertTrue(inspect.isclass(found))
+            self.assertEqual(found.__module__, "onlygiven." + module)
+            self.assertEqual([above.__name__ for above in found.__bases__], [base])
+            self.assertEqual(str(inspect.signature(found)), parameters)
+
+    def test_methods_stand_in_their_class(self):
+        for name, (_, _, _, methods, _) in CLASSES.items():
+            for method, parameters in methods.items():
+                found = vars(class_called(name))[method]
+                self.assertTrue(inspect.isfunction(found))
+                self.assertEqual(str(inspect.signature(found)), parameters)
+
+    def test_properties_stand_in_their_class(self):
+        for name, (_, _, _, _, properties) in CLASSES.items():
+            for told in properties:
+                found = vars(class_called(name))[told]
+                self.assertIsInstance(found, property)
+                self.assertIs(found.fset is not None, told in SETTERS.get(name, ()))
+
+    def test_class_methods(self):
+        for name, methods in CLASS_METHODS.items():
+            for method, parameters in methods.items():
+                self.assertIsInstance(vars(class_called(name))[method], classmethod)
+                self.assertEqual(str(inspect.signature(getattr(class_called(name), method))), parameters)
 
 
 if __name__ == "__main__":

@@ -1,4 +1,8 @@
-"""Values of every kind of "any value", for the functions that accept any value."""
+"""Values of every kind of "any value", for the functions that accept any value, and what they are not."""
+
+import re
+
+from oracles import is_kind_text
 
 
 def nested(depth, wrap, inner):
@@ -24,3 +28,44 @@ ANY_VALUES = [
 ]
 
 NO_STRINGS = [thing for thing in ANY_VALUES if not isinstance(thing, str)]
+
+
+def is_plainly_a_name(thing):
+    return isinstance(thing, str) and re.fullmatch("[a-z]{1,8}", thing) is not None
+
+
+def is_plainly_a_kind(thing):
+    return isinstance(thing, str) and is_kind_text(thing)
+
+
+def is_plainly_an_entry(thing):
+    return isinstance(thing, tuple) and len(thing) == 2 and is_plainly_a_name(thing[0]) and is_plainly_a_kind(thing[1])
+
+
+def is_plainly_a_book(thing):
+    if not isinstance(thing, tuple) or not all(is_plainly_an_entry(entry) for entry in thing):
+        return False
+    return [name for name, _ in thing] == sorted({name for name, _ in thing})
+
+
+NO_NAMES = [thing for thing in ANY_VALUES if not is_plainly_a_name(thing)]
+
+NO_KINDS = [thing for thing in ANY_VALUES if not is_plainly_a_kind(thing)] + [
+    "(p)", "(p -> q)", "p ->", "p -> ", "-> p", "p->q", "p -> (q)", "p -> (q -> r)", "((p -> q)) -> p", "(p -> q -> r",
+    "p -> q)", "p  -> q", " p", "p ", "p -> Q", "p -> q\n", "p -> abcdefghi", ("p", "q"), ["p -> q"], "p, q", "p: q",
+]
+
+NO_ENTRIES = [thing for thing in ANY_VALUES if not is_plainly_an_entry(thing)] + [
+    ("a", "(p)"), ("A", "p"), ["a", "p"], ("a", "p", "q"), ("a",), "a: p", ("abcdefghi", "p"), ("a", None), (("a", "p"),),
+    ("a", ["p"]), (["a"], "p"), (True, "p"),
+]
+
+NO_BOOKS = [thing for thing in ANY_VALUES if not is_plainly_a_book(thing)] + [
+    (("b", "p"), ("a", "p")), (("a", "p"), ("a", "p")), (("a", "p"), ("a", "q")), (("a", "p"), ("b", "(p)")),
+    (("a", "p"), ["b", "p"]), (("a", "p"), ("b", "p", "q")), [("a", "p"), ("b", "p")], (("A", "p"),), (("a", 0),),
+    {"a": "p"}, (("a", ("p",)),), ((("a",), "p"),),
+]
+
+NO_NUMBERS = [thing for thing in ANY_VALUES if isinstance(thing, bool) or not isinstance(thing, int) or thing < 0] + [
+    -2, "1", (1,), [1],
+]

@@ -1,0 +1,53 @@
+"""Stands, where they lead, and the least sizes of makers there. What is handed in here is not checked.
+
+A stand has the kinds of the variables at hand, but not how many there are of each. This is all that has to be known
+to tell whether something can be made, and of what size the least maker is; and there are only so many stands.
+"""
+
+
+def stand_with(hand, atom):
+    """The stand with the kinds of these variables, at which the atom is wanted."""
+    return (tuple(sorted(set(hand))), atom)
+
+
+def steps_from(first, given, rows, ends):
+    """For each stand to which the first one leads: for each of its heads the stands to which the parts lead.
+
+    given are the kinds of the names of the book, rows the parts and ends the ends of all kinds within.
+    """
+    steps = {}
+    waiting = [first]
+    while waiting:
+        stand = waiting.pop()
+        if stand in steps:
+            continue
+        kinds, atom = stand
+        heads = sorted(set([kind for kind in given + list(kinds) if ends[kind] == atom]))
+        steps[stand] = {head: [stand_with(kinds + rows[part], ends[part]) for part in rows[head]] for head in heads}
+        for stands in steps[stand].values():
+            waiting.extend(stands)
+    return steps
+
+
+def head_sizes(heads, least):
+    """For each head all of whose parts can be made: the least size of a maker with this head."""
+    return {
+        head: 1 + sum([least[stand] for stand in stands])
+        for head, stands in heads.items() if all([stand in least for stand in stands])
+    }
+
+
+def least_sizes(steps):
+    """For each stand at which something can be made the least size of a maker."""
+    least = {}
+    # What comes behind a stand was mostly found later: so this way few rounds are enough.
+    stands = list(steps)[::-1]
+    changed = True
+    while changed:
+        changed = False
+        for stand in stands:
+            size = min(list(head_sizes(steps[stand], least).values()), default=None)
+            if size is not None and size != least.get(stand):
+                least[stand] = size
+                changed = True
+    return least
