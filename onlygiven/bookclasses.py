@@ -54,7 +54,7 @@ class Book:
 
     def lies_in(self, other):
         """Whether the other book has all its entries."""
-        check_usable(isinstance(other, Book), "other")
+        # What is no Book is refused by the sign.
         return (self & other) == self
 
     def __add__(self, other):

@@ -53,26 +53,6 @@ class Kept:
         self.outer = outer
 
 
-class Trial:
-    """A block at whose end the builder is as it was at its beginning."""
-
-    def __init__(self, builder):
-        self._builder = builder
-        self._kept = None
-
-    def __enter__(self):
-        builder = self._builder
-        # The same trial may be entered again within itself.
-        self._kept = Kept(builder._steps, builder._floor, self._kept)
-        builder._floor = len(builder._steps)
-        return builder
-
-    def __exit__(self, kind, value, trace):
-        self._builder._steps = self._kept.steps
-        self._builder._floor = self._kept.floor
-        self._kept = self._kept.outer
-
-
 class Builder:
     """Makes a maker of the wish head by head.
 
@@ -87,6 +67,8 @@ class Builder:
         self._steps = (first_step(outlook),)
         # How many of the steps cannot be taken back.
         self._floor = 1
+        # What is to be put back at the end of the innermost block.
+        self._kept = None
 
     @property
     def goals_now(self):
@@ -149,7 +131,18 @@ class Builder:
 
     def trial(self):
         """A block for trying: at its end the builder is as it was at its beginning."""
-        return Trial(self)
+        # The builder is its own block, and keeps what is to be put back.
+        return self
+
+    def __enter__(self):
+        self._kept = Kept(self._steps, self._floor, self._kept)
+        self._floor = len(self._steps)
+        return self
+
+    def __exit__(self, kind, value, trace):
+        self._steps = self._kept.steps
+        self._floor = self._kept.floor
+        self._kept = self._kept.outer
 
     def tried(self, *heads):
         """The goals as they are after these heads; nothing changes."""
