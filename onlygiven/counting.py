@@ -45,14 +45,18 @@ def counted_states(outlook):
     return counted
 
 
-def how_many(book, wish):
-    """How many makers the wish has, None if endlessly many."""
-    outlook = outlook_for(book, wish)
+def number_of_all(outlook):
+    """How many makers there are, None for endlessly many."""
     if not outlook.has_maker():
         return 0
     if Repeats(outlook).are_there():
         return None
     return list(counted_states(outlook).values())[-1]
+
+
+def how_many(book, wish):
+    """How many makers the wish has, None if endlessly many."""
+    return number_of_all(outlook_for(book, wish))
 
 
 def how_many_of(book, wish, size):
@@ -69,7 +73,7 @@ def how_many_of(book, wish, size):
 
 def just_paper(outlook):
     """The count paper of a wish that has not endlessly many makers."""
-    shut = tuple(sorted([stand for stand in outlook.steps if stand not in outlook.least]))
+    shut = outlook.shut_stands()
     if not outlook.has_maker():
         return ("just", 0, (), shut)
     rows = tuple(counted_states(outlook).items())

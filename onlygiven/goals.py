@@ -58,15 +58,20 @@ def first_head(outlook, goal, chosen):
     return [(head, kind) for head, kind in heads_for(outlook, goal) if kind in kinds][0]
 
 
-def least_maker(outlook, chosen):
-    """The least maker that has a head of the chosen kind at each place for which a kind is chosen."""
+def maker_by(outlook, pick):
+    """The maker whose heads, each with its kind, pick tells for the goals."""
     # The first goal stands last, so that goals come and go at one end of the list.
     goals = [first_goal(outlook)]
     taken = []
     while goals:
         goal = goals.pop()
-        head, kind = first_head(outlook, goal, chosen)
+        head, kind = pick(goal)
         behind = goals_behind(outlook, goal, kind)
         taken.append((head, len(behind)))
         goals.extend(behind[::-1])
     return maker_from(taken)
+
+
+def least_maker(outlook, chosen):
+    """The least maker that has a head of the chosen kind at each place for which a kind is chosen."""
+    return maker_by(outlook, lambda goal: first_head(outlook, goal, chosen))

@@ -47,11 +47,11 @@ def kind_with(parts, end):
 
 def kinds_inside(kinds):
     """The list of these kinds, their parts, and what is within these, each once, in any order."""
-    inside = {}
+    inside = []
     waiting = list(kinds)
     while waiting:
         kind = waiting.pop()
         if kind not in inside:
-            inside[kind] = True
+            inside.append(kind)
             waiting.extend(parts_in(kind))
-    return list(inside)
+    return inside

@@ -31,6 +31,10 @@ class Outlook:
         """Whether the wish has a maker."""
         return self.first in self.least
 
+    def shut_stands(self):
+        """The set of the stands at which nothing can be made."""
+        return tuple(sorted([stand for stand in self.steps if stand not in self.least]))
+
 
 def check_wish(book, wish):
     """The parameters of all that is asked about a wish."""

@@ -19,8 +19,9 @@ def copies_of(outlook, hand, kind):
 class SizeCounts:
     """How many makers of each size there are, for all states that a maker of the wish of at most this size can have.
 
-    most has for each state how many places are left to it at most. lines has for each state a list of pairs: how many
-    heads of a kind there are, and the row of their makers.
+    most has for each state how many places are left to it at most. lines has for each state and each kind of its heads
+    a pair: how many such heads there are, and the row of their makers. counts has for each state the numbers of its
+    makers by size, ways for each row how many ways there are to fill it, by the places that are filled.
     """
 
     def __init__(self, outlook, size):
@@ -31,7 +32,7 @@ class SizeCounts:
         self.explore(size)
         self.limits = {}
         for state, lines in self.lines.items():
-            for _, row in lines:
+            for _, row in lines.values():
                 self.note_row(row, self.most[state] - 1)
         self.counts = {state: [0] for state in self.lines}
         self.ways = {row: [] for row in self.limits}
@@ -59,7 +60,7 @@ class SizeCounts:
         outlook = self.outlook
         hand, atom = state
         stand = stand_with(hand, atom)
-        lines = []
+        lines = {}
         for kind, size in outlook.sizes.get(stand, {}).items():
             if size > left:
                 continue
@@ -68,7 +69,7 @@ class SizeCounts:
                 behind = state_with(hand + outlook.rows[part], outlook.ends[part])
                 row.append(self.number_of_state(behind))
                 waiting.setdefault(left - size + outlook.least[below], []).append(behind)
-            lines.append((copies_of(outlook, hand, kind), tuple(row)))
+            lines[kind] = (copies_of(outlook, hand, kind), tuple(row))
         return lines
 
     def note_row(self, row, places):
@@ -96,7 +97,13 @@ class SizeCounts:
         """For each state the number of makers that have so many places below their own."""
         for state, lines in self.lines.items():
             if length < self.most[state]:
-                self.counts[state].append(sum([many * self.ways[row][length] for many, row in lines]))
+                self.counts[state].append(sum([many * self.ways[row][length] for many, row in lines.values()]))
+
+    def rows_at(self, goal):
+        """For each kind of head at the goal the row of its makers."""
+        _, hand, atom = goal
+        lines = self.lines[self.numbers[state_with(hand, atom)]]
+        return {kind: lines[kind][1] for kind in lines}
 
     def count_of(self, size):
         """How many makers of the wish have this size, which is at most that of the beginning."""

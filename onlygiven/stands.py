@@ -37,8 +37,11 @@ def head_sizes(heads, least):
     }
 
 
-def least_sizes(steps):
-    """For each stand at which something can be made the least size of a maker."""
+def least_values(steps, values_at):
+    """For each stand at which something can be made the least value of one of its heads.
+
+    values_at tells for a stand, and the least values that are known so far, the values of the heads, which only fall.
+    """
     least = {}
     # What comes behind a stand was mostly found later: so this way few rounds are enough.
     stands = list(steps)[::-1]
@@ -46,8 +49,13 @@ def least_sizes(steps):
     while changed:
         changed = False
         for stand in stands:
-            size = min(list(head_sizes(steps[stand], least).values()), default=None)
-            if size is not None and size != least.get(stand):
-                least[stand] = size
+            value = min(list(values_at(stand, least).values()), default=None)
+            if value is not None and value != least.get(stand):
+                least[stand] = value
                 changed = True
     return least
+
+
+def least_sizes(steps):
+    """For each stand at which something can be made the least size of a maker."""
+    return least_values(steps, lambda stand, least: head_sizes(steps[stand], least))

@@ -28,7 +28,34 @@ FUNCTIONS = {
     "makerreadings": {"maker_read": "(text)"},
     "judging": {"can_make": "(book, wish)", "smallest_maker": "(book, wish)"},
     "counting": {"how_many": "(book, wish)", "how_many_of": "(book, wish, size)", "count_paper": "(book, wish)"},
+    "makers": {
+        "lets_maker": "(book, wish, thing)", "places_of": "(maker)", "part_at": "(maker, place)", "maker_size": "(maker)",
+        "maker_levels": "(maker)", "names_in": "(maker)", "uses_of": "(maker, name)",
+        "wanted_at": "(book, wish, maker, place)",
+    },
+    "makertexts": {"maker_text": "(maker)", "tree_rows": "(book, wish, maker)"},
+    "shuttables": {"shut_table": "(book, wish)"},
+    "ordering": {
+        "maker_at": "(book, wish, k)", "number_of": "(book, wish, maker)", "makers_of": "(book, wish)",
+        "is_lesser": "(book, wish, maker, other)",
+    },
+    "pumping": {"pumped": "(book, wish, maker, place, deeper, times)"},
+    "pricing": {name: "(book, wish, prices)" for name in ("least_price", "cheapest_maker", "price_paper")},
+    "pricechecker": {"lets_price": "(book, wish, prices, thing)"},
+    "naming": {
+        name: "(book, wish)" for name in ("needed_names", "names_of_use", "least_names", "greatest_without")
+    },
+    "handing": {
+        name: "(book, let, barred)" for name in ("greatest_handouts", "least_handouts", "handout_paper")
+    },
+    "fillingcounts": {
+        "how_many_fillings": "(low, high)", "filling_for": "(low, high)", "gives_all": "(high, low)",
+        "lacking_names": "(high, low)",
+    },
+    "instances": {"instance_maker": "(book, wish, maker, atom, other)"},
     "benchevents": {"is_event": "(thing)"},
+    "benchlogs": {"is_log": "(thing)", "replayed": "(log)"},
+    "benchtexts": {"event_line": "(event)", "log_lines": "(log)"},
     "benchreadings": {"read_event": "(text)", "read_log": "(lines)"},
 }
 
@@ -45,9 +72,30 @@ CLASSES = {
         "offers": "(self)", "take": "(self, head)", "set_next": "(self, head)", "__iadd__": "(self, other)",
         "back": "(self)", "forced": "(self)", "trial": "(self)", "tried": "(self, *heads)",
     }, ("goals_now", "is_done", "made_now", "next_head")),
+    "Kind": ("kindclasses", "object", "(spelling)", {
+        "__getitem__": "(self, at)", "__len__": "(self)", "__iter__": "(self)", "__str__": "(self)",
+        "__contains__": "(self, x)", "__eq__": "(self, other)", "__rshift__": "(self, other)", "__call__": "(self, other)",
+    }, ("spelling", "parts", "end")),
+    "Filling": ("fillings", "object", "(low, high, makers)", {
+        "__call__": "(self, wish, maker)", "__rshift__": "(self, other)", "__getitem__": "(self, at)", "__len__": "(self)",
+        "__iter__": "(self)", "__eq__": "(self, other)",
+    }, ()),
+    "Bench": ("benches", "object", "(book=())", {
+        "add_name": "(self, name, kind)", "drop_name": "(self, name)", "set_kind": "(self, name, kind)",
+        "let_wish": "(self, wish)", "bar_wish": "(self, wish)", "free_wish": "(self, wish)", "go": "(self, event)",
+        "__setitem__": "(self, at, worth)", "__getitem__": "(self, at)", "__contains__": "(self, x)", "__len__": "(self)",
+        "__iter__": "(self)", "__eq__": "(self, other)", "verdict_now": "(self, wish)", "verdicts_now": "(self)",
+        "alarms": "(self)", "changes": "(self, k)", "cures": "(self)", "barred_by": "(self, event)",
+        "tried": "(self, events)", "undo": "(self)", "do_all": "(self, events, *, keep=False)", "__enter__": "(self)",
+        "__exit__": "(self, kind, value, trace)", "tally": "(self)", "table": "(self)", "log": "(self)",
+    }, ("book_now", "let_now", "barred_now")),
 }
 
-CLASS_METHODS = {"Book": {"of": "(*entries)", "read": "(text)"}}
+CLASS_METHODS = {"Book": {"of": "(*entries)", "read": "(text)"}, "Kind": {"atom": "(name)"}}
+
+STATIC_METHODS = {"Kind": {"spelled": "(thing)"}, "Filling": {"plain": "(book)"}}
+
+CLASS_VALUES = {"Bench": {"MOST": 40}}
 
 SETTERS = {"Builder": ("next_head",)}
 
@@ -93,6 +141,17 @@ class InterfaceTest(unittest.TestCase):
             for method, parameters in methods.items():
                 self.assertIsInstance(vars(class_called(name))[method], classmethod)
                 self.assertEqual(str(inspect.signature(getattr(class_called(name), method))), parameters)
+
+    def test_static_methods(self):
+        for name, methods in STATIC_METHODS.items():
+            for method, parameters in methods.items():
+                self.assertIsInstance(vars(class_called(name))[method], staticmethod)
+                self.assertEqual(str(inspect.signature(getattr(class_called(name), method))), parameters)
+
+    def test_class_values(self):
+        for name, values in CLASS_VALUES.items():
+            for value, number in values.items():
+                self.assertEqual(vars(class_called(name))[value], number)
 
 
 if __name__ == "__main__":

@@ -71,7 +71,7 @@ def own_lists(node):
         if isinstance(row, ast.Assign):
             for target in row.targets:
                 for name in ast.walk(target):
-                    if isinstance(name, ast.Name):
+                    if isinstance(name, ast.Name) and isinstance(name.ctx, ast.Store):
                         (made if target is name and creates(row.value) else other).add(name.id)
         elif isinstance(row, (ast.For, ast.comprehension)):
             other.update(name.id for name in ast.walk(row.target) if isinstance(name, ast.Name))
@@ -130,30 +130,34 @@ class ObjectsTest(unittest.TestCase):
         """No name is an attribute here and a method or a property there."""
         stored = {node.attr for _, node in nodes(ast.Attribute) if isinstance(node.ctx, ast.Store)}
         told = {row.name for node in classes() for row in methods(node)}
+        given = {target.id for node in classes() for row in node.body if isinstance(row, ast.Assign)
+                 for target in row.targets}
         self.assertFalse(stored & told)
+        self.assertFalse(given & (stored | told))
         plain = {row.name for node in classes() for row in methods(node) if not row.decorator_list}
         self.assertFalse((told - plain) & plain)
         for path, node in nodes(ast.Attribute):
             if isinstance(node.ctx, ast.Load):
-                self.assertIn(node.attr, stored | told | METHODS | {"setter"}, f"{path.name}:{node.lineno}")
+                self.assertIn(node.attr, stored | told | given | METHODS | {"setter"}, f"{path.name}:{node.lineno}")
 
     def test_ends_of_blocks(self):
         for node in functions():
             if node.name == "__exit__":
                 self.assertEqual([argument.arg for argument in node.args.args], ["self", "kind", "value", "trace"])
                 for row in node.body:
-                    self.assertIsInstance(row, ast.Assign)
-                    self.assertRegex(ast.unparse(row), r"\Aself(\.\w+)+ = self(\.\w+)+\Z")
+                    # What stands behind an "if" has four spaces more.
+                    self.assertIsInstance(row, (ast.Assign, ast.If))
+                    self.assertRegex(ast.unparse(row), r"\A(if kind is not None:\n    )?self(\.\w+)+ = self(\.\w+)+\Z")
 
     def test_iteration(self):
         for node in classes():
             names = {row.name: row for row in methods(node)}
             if "__iter__" in names:
-                self.assertRegex(ast.unparse(names["__iter__"].body[-1]), r"\Areturn iter\(self\.\w+\)\Z")
+                self.assertRegex(ast.unparse(names["__iter__"].body[-1]), r"\Areturn iter\(self(\.\w+)+\)\Z")
             if "__getitem__" in names:
                 self.assertIn("__iter__", names)
             if "__len__" in names:
-                self.assertRegex(ast.unparse(names["__len__"].body[-1]), r"\Areturn len\(self\.\w+\)\Z")
+                self.assertRegex(ast.unparse(names["__len__"].body[-1]), r"\Areturn len\(self(\.\w+)+\)\Z")
 
     def test_iterated_at_once(self):
         for path, tree in trees().items():

@@ -69,3 +69,21 @@ NO_BOOKS = [thing for thing in ANY_VALUES if not is_plainly_a_book(thing)] + [
 NO_NUMBERS = [thing for thing in ANY_VALUES if isinstance(thing, bool) or not isinstance(thing, int) or thing < 0] + [
     -2, "1", (1,), [1],
 ]
+
+
+def is_plainly_a_maker(thing):
+    if not isinstance(thing, tuple) or len(thing) != 2 or not isinstance(thing[1], tuple):
+        return False
+    number = isinstance(thing[0], int) and not isinstance(thing[0], bool) and thing[0] >= 0
+    return (number or is_plainly_a_name(thing[0])) and all(is_plainly_a_maker(maker) for maker in thing[1])
+
+
+NO_MAKERS = [thing for thing in ANY_VALUES if not is_plainly_a_maker(thing)] + [
+    ("f", [("a", ())]), ["f", ()], ("f", ((True, ()),)), ("f", ((-1, ()),)), ("f", (("a", ()), "b")), ("F", ()), ("f",),
+    ("f", (), ()), "f(a)", ("f", ("a", ())), ("f", (["a", ()],)), ("call", "f", ()), ((), ()), ("f", None), (1, 2),
+]
+
+# No places of any maker.
+NO_PLACES = [thing for thing in ANY_VALUES if thing not in ((), (0,))] + [
+    (-1,), (True,), (False,), (None,), ("a",), ([0],), [0], 0, (SIXTY_DIGITS,), (0, -1), ("0",), ((0,),), (False, 0),
+]

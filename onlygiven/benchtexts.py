@@ -1,0 +1,31 @@
+"""The lines of events and logs."""
+
+from onlygiven.benchevents import EVENT_FORMS, is_event
+from onlygiven.benchlogs import is_log
+from onlygiven.booktexts import entry_line
+from onlygiven.usable import check_usable
+
+
+def line_of_event(event):
+    """The line of what is known to be an event."""
+    if EVENT_FORMS[event[0]] == "entry":
+        return event[0] + " " + entry_line(event[1:])
+    return " ".join(event)
+
+
+def line_of_beginning(book):
+    """The line of the first element of a log."""
+    entries = ", ".join([entry_line(entry) for entry in book])
+    return "bench " + (entries if book else "-")
+
+
+def event_line(event):
+    """The line of an event by form."""
+    check_usable(is_event(event), "event")
+    return line_of_event(event)
+
+
+def log_lines(log):
+    """The list of the lines of a log."""
+    check_usable(is_log(log), "log")
+    return [line_of_beginning(log[0][1])] + [line_of_event(event) for event in log[1:]]

@@ -1,0 +1,55 @@
+"""Tables of numbers for stands, as papers have them.
+
+A number table is a tuple of pairs of a stand and a number or None, stands ascending.
+"""
+
+from onlygiven.errors import InvalidPaper
+from onlygiven.kinds import is_number, is_row, is_stand
+from onlygiven.kindsplits import end_in, kinds_inside, names_in_kind, parts_in
+from onlygiven.stands import stand_with
+
+
+def is_table_row(thing):
+    """Whether any value is a pair of a stand and a number or None."""
+    return is_row(thing, 2) and is_stand(thing[0]) and (thing[1] is None or is_number(thing[1]))
+
+
+def are_table_rows(thing):
+    return isinstance(thing, tuple) and all([is_table_row(row) for row in thing])
+
+
+def check_table_stands(book, wish, rows):
+    """The stands of a table have kinds and atoms of the book and the wish alone, and ascend."""
+    given = [entry[1] for entry in book] + [wish]
+    kinds = kinds_inside(given)
+    atoms = [atom for kind in given for atom in names_in_kind(kind)]
+    for k, (stand, _) in enumerate(rows):
+        known = stand[1] in atoms and all([kind in kinds for kind in stand[0]])
+        if not known or (k > 0 and stand <= rows[k - 1][0]):
+            raise InvalidPaper("stand", k)
+
+
+def heads_of_stand(book, stand):
+    """The list of the kinds with the stand's end of the names of the book and of its own kinds, each once."""
+    kinds = [entry[1] for entry in book] + list(stand[0])
+    return sorted(set([kind for kind in kinds if end_in(kind) == stand[1]]))
+
+
+def stands_behind(stand, head):
+    """The stands to which the parts of a head lead."""
+    return [stand_with(stand[0] + tuple(parts_in(part)), end_in(part)) for part in parts_in(head)]
+
+
+def head_sums(book, numbers, stand, added):
+    """For each head what it adds and the numbers of its parts together, None if some part leads to no row.
+
+    Heads of which some part leads to a row with None are left out. added tells what a head at a stand adds.
+    """
+    sums = []
+    for head in heads_of_stand(book, stand):
+        below = stands_behind(stand, head)
+        if any([other in numbers and numbers[other] is None for other in below]):
+            continue
+        known = all([other in numbers for other in below])
+        sums.append(added(stand, head) + sum([numbers[other] for other in below]) if known else None)
+    return sums
