@@ -1,4 +1,3 @@
-import itertools
 import unittest
 
 from books import LIST, PAIR, ROUND, SAFE
@@ -6,21 +5,12 @@ from checks import Checks
 from onlygiven.bookclasses import Book
 from onlygiven.errors import NotMade
 from onlygiven.naming import greatest_without, least_names, names_of_use, needed_names
+from papers import all_sets, part_of_book
 from plainly import has_maker, heads_in, makers_of_size, wishes_of_all_sorts
 from values import NO_BOOKS, NO_KINDS
 
 WISHES = wishes_of_all_sorts(50, 160, names=5) + wishes_of_all_sorts(501, 60, names=6, order=3) + wishes_of_all_sorts(
     502, 40, names=5, atoms=("p", "q"), size=5, order=3)
-
-
-def all_sets(book):
-    """All sets of names."""
-    names = [name for name, _ in book]
-    return [row for many in range(len(names) + 1) for row in itertools.combinations(names, many)]
-
-
-def part_of_book(book, names):
-    return tuple(entry for entry in book if entry[0] in names)
 
 
 def enough_sets(book, wish):
