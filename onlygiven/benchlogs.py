@@ -8,8 +8,7 @@ from onlygiven.usable import check_usable
 
 def is_beginning(thing):
     """Whether any value is the first element of a log, by form."""
-    # What is no string is not compared, as any value has to be looked at by its kind first.
-    return is_row(thing, 2) and isinstance(thing[0], str) and thing[0] == "bench" and is_book(thing[1])
+    return is_row(thing, 2) and thing[0] == "bench" and is_book(thing[1])
 
 
 def is_log(thing):

@@ -1,6 +1,6 @@
 """The lines of events and logs."""
 
-from onlygiven.benchevents import EVENT_FORMS, is_event
+from onlygiven.benchevents import is_event
 from onlygiven.benchlogs import is_log
 from onlygiven.booktexts import entry_line
 from onlygiven.usable import check_usable
@@ -8,9 +8,8 @@ from onlygiven.usable import check_usable
 
 def line_of_event(event):
     """The line of what is known to be an event."""
-    if EVENT_FORMS[event[0]] == "entry":
-        return event[0] + " " + entry_line(event[1:])
-    return " ".join(event)
+    # Behind the word stands an entry, or one thing alone.
+    return event[0] + " " + ": ".join(event[1:])
 
 
 def line_of_beginning(book):

@@ -2,18 +2,15 @@
 
 from onlygiven.bookchanges import instance_book
 from onlygiven.kindchanges import instance_in
-from onlygiven.kinds import is_kind, is_name
 from onlygiven.makerwalks import usable_spots
 from onlygiven.normals import Made, form_of, plain_maker, values_of_names
 from onlygiven.outlooks import check_wish
-from onlygiven.usable import check_usable
 
 
 def instance_maker(book, wish, maker, atom, other):
     """The plain form of what the maker writes out with the instances of all kinds."""
     check_wish(book, wish)
     spots = usable_spots(book, wish, maker, "maker")
-    check_usable(is_name(atom), "atom")
-    check_usable(is_kind(other), "other")
+    # Atom and other are checked with the book.
     names = values_of_names(instance_book(book, atom, other))
     return plain_maker(Made(form_of(spots), names, []), instance_in(wish, atom, other))

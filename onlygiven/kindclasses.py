@@ -44,7 +44,7 @@ class Kind:
     def __contains__(self, x):
         """Whether it is one of the kinds within, or the Kind of one of them."""
         written = x._written if isinstance(x, Kind) else x
-        return is_kind(written) and written in kinds_inside([self._written])
+        return written in kinds_inside([self._written])
 
     def __eq__(self, other):
         return isinstance(other, Kind) and self._written == other._written

@@ -133,9 +133,12 @@ def random_maker(rng, book, wish, most=5):
     return rng.choice(makers) if makers else None
 
 
-def random_filling(rng, low, high):
-    """The makers of a filling, None if there is none with makers that small."""
-    makers = tuple(random_maker(rng, high, kind) for _, kind in low)
+def random_filling(rng, low, high, most=3):
+    """The makers of a filling, None if there is none with makers that small.
+
+    What is filled several times over doubles at every place: so makers have to be small.
+    """
+    makers = tuple(random_maker(rng, high, kind, most) for _, kind in low)
     return None if None in makers else makers
 
 
@@ -145,7 +148,7 @@ def cases(seed, count, atoms=("p", "q"), order=2):
     while len(found) < count:
         low, high = random_book(rng, 3, 4, atoms, order), random_book(rng, 4, 4, atoms, order)
         wish = random_kind(rng, 4, atoms, order)
-        makers, maker = random_filling(rng, low, high), random_maker(rng, low, wish)
+        makers, maker = random_filling(rng, low, high, 4), random_maker(rng, low, wish)
         if makers is not None and maker is not None:
             found.append((low, high, makers, wish, maker))
     return found

@@ -78,8 +78,9 @@ def random_name(rng):
 
 
 def random_book(rng, most_names, most_atoms, atoms=ATOMS, order=3):
-    names = {random_name(rng) for _ in range(rng.randint(0, most_names))}
-    return tuple(sorted((name, random_kind(rng, most_atoms, atoms, order)) for name in names))
+    # A set has no order of its own: without sorting, the kinds would come to other names in each run.
+    names = sorted({random_name(rng) for _ in range(rng.randint(0, most_names))})
+    return tuple((name, random_kind(rng, most_atoms, atoms, order)) for name in names)
 
 
 def kinds_of_all_sorts(seed, count, most=8):

@@ -13,6 +13,9 @@ from values import ANY_VALUES, NO_BOOKS, NO_KINDS, NO_MAKERS
 LOW = (("n", CHURCH),)
 TWO = numeral(2)
 
+# Greater makers are not filled once more.
+MOST_SIZE = 10
+
 CASES = cases(54, 250) + cases(541, 120, order=3) + cases(542, 60, ("p",), 3)
 
 
@@ -67,7 +70,7 @@ class FillingTest(Checks):
         for low, high, makers, wish, maker in CASES:
             top = random_book(rng, 4, 4, ("p", "q"), 2)
             others = random_filling(rng, high, top)
-            if others is None:
+            if others is None or size_of_maker(filled(low, high, makers, wish, maker)) > MOST_SIZE:
                 continue
             met += 1
             first, second = Filling(low, high, makers), Filling(high, top, others)
