@@ -5,7 +5,6 @@ whether something is so with the set s. So what is asked of all sets at once tak
 """
 
 
-
 def whole_table(many):
     """The table in which everything is so, over so many names."""
     return (1 << (1 << many)) - 1
