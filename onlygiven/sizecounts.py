@@ -42,35 +42,42 @@ class SizeCounts:
 
     def explore(self, size):
         """Finds all states, those first to which more places are left: so none has to be looked at again."""
-        outlook = self.outlook
-        waiting = {size: [state_with(outlook.hand, outlook.wanted)]}
+        waiting = {size: [state_with(self.outlook.hand, self.outlook.wanted)]}
         for left in range(size, 0, -1):
             states = waiting.pop(left, [])
+            found = []
             for state in states:
                 number = self.number_of_state(state)
                 if number not in self.lines:
+                    rows = self.rows_behind(state, left)
                     self.most[number] = left
-                    self.lines[number] = self.lines_at(state, left, waiting)
+                    self.lines[number] = self.lines_for(state, rows)
+                    found.extend([entry for row in rows.values() for entry in row])
+            for places, behind in found:
+                waiting.setdefault(places, []).append(behind)
 
     def number_of_state(self, state):
         return self.numbers.setdefault(state, len(self.numbers))
 
-    def lines_at(self, state, left, waiting):
-        """The lines of a state; the states of their rows go to those that wait, by the places left to them."""
+    def rows_behind(self, state, left):
+        """For each kind of head with room for its makers: how many places each of these has at most, and its state."""
         outlook = self.outlook
         hand, atom = state
         stand = stand_with(hand, atom)
-        lines = {}
-        for kind, size in outlook.sizes.get(stand, {}).items():
-            if size > left:
-                continue
-            row = []
-            for part, below in zip(outlook.rows[kind], outlook.steps[stand][kind]):
-                behind = state_with(hand + outlook.rows[part], outlook.ends[part])
-                row.append(self.number_of_state(behind))
-                waiting.setdefault(left - size + outlook.least[below], []).append(behind)
-            lines[kind] = (copies_of(outlook, hand, kind), tuple(row))
-        return lines
+        return {
+            kind: [
+                (left - size + outlook.least[below], state_with(hand + outlook.rows[part], outlook.ends[part]))
+                for part, below in zip(outlook.rows[kind], outlook.steps[stand][kind])
+            ]
+            for kind, size in outlook.sizes.get(stand, {}).items() if size <= left
+        }
+
+    def lines_for(self, state, rows):
+        """The lines of a state that has these rows behind it."""
+        return {
+            kind: (copies_of(self.outlook, state[0], kind), tuple([self.number_of_state(behind) for _, behind in row]))
+            for kind, row in rows.items()
+        }
 
     def note_row(self, row, places):
         """The row, and what is left of it behind each of its makers, are needed up to so many places."""

@@ -84,6 +84,45 @@ def creates(value):
     return isinstance(value, (ast.List, ast.Dict, ast.ListComp))
 
 
+def chains(expression):
+    """The names and the fields of names in an expression, written out."""
+    found = set()
+    for node in ast.walk(expression):
+        base = node
+        while isinstance(base, ast.Attribute):
+            base = base.value
+        if isinstance(base, ast.Name):
+            found.add(ast.unparse(node))
+    return found - {"self"}
+
+
+def changed_in(rows):
+    """What the rows change: what stands ahead of a method that changes, of an index, or an attribute."""
+    for row in rows:
+        for node in ast.walk(row):
+            if isinstance(node, ast.Call) and isinstance(node.func, ast.Attribute) and node.func.attr in CHANGING:
+                yield node.func.value
+            elif isinstance(node, (ast.Subscript, ast.Attribute)) and not isinstance(node.ctx, ast.Load):
+                yield node.value if isinstance(node, ast.Subscript) else node
+
+
+def walked_and_changed(tree):
+    """What a loop walks and changes, as far as names tell it: by a name, a field, or where it picks by such."""
+    found = []
+    for loop in ast.walk(tree):
+        if isinstance(loop, ast.For):
+            walked, rows = chains(loop.iter), loop.body
+        elif isinstance(loop, (ast.ListComp, ast.SetComp, ast.DictComp)):
+            walked, rows = set().union(*[chains(part.iter) for part in loop.generators]), [loop]
+        else:
+            continue
+        for changed in changed_in(rows):
+            for name in chains(changed):
+                if any(name == other or name.startswith(other + ".") or other.startswith(name + ".") for other in walked):
+                    found.append(f"{ast.unparse(changed)}:{changed.lineno}")
+    return found
+
+
 def parents(tree):
     return {child: node for node in ast.walk(tree) for child in ast.iter_child_nodes(node)}
 
@@ -169,6 +208,21 @@ class ObjectsTest(unittest.TestCase):
                     looped = isinstance(user, (ast.For, ast.comprehension)) and user.iter is node
                     taken = is_call_of(user, TAKERS) and user.args[0] is node
                     self.assertTrue(looped or taken, f"{path.name}:{node.lineno}")
+
+    def test_what_is_walked_is_not_changed(self):
+        for path, tree in trees().items():
+            self.assertEqual(walked_and_changed(tree), [], path)
+
+    def test_what_is_walked_and_changed_is_found(self):
+        for loop, row in (
+            ("for x in rows", "rows.append(x)"), ("for x in box.rows", "box.rows.pop()"),
+            ("for k, x in enumerate(self.rows)", "self.rows[k] = x"), ("for x in box.rows", "box.rows[0] = x"),
+            ("for x in box.rows", "other.setdefault(box.least[x], []).append(x)"), ("for x in rows", "del rows[0]"),
+            ("for x in (rows if many else others)", "others.append(x)"), ("for x in rows.values()", "rows[x].append(x)"),
+        ):
+            self.assertTrue(walked_and_changed(ast.parse(f"{loop}:\n    {row}")), row)
+        for loop, row in (("for x in list(rows)", "others.append(x)"), ("for x in self.rows", "self.others[x] = x")):
+            self.assertFalse(walked_and_changed(ast.parse(f"{loop}:\n    {row}")), row)
 
     def test_sets(self):
         for path, tree in trees().items():
