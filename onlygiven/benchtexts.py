@@ -12,10 +12,14 @@ def line_of_event(event):
     return event[0] + " " + ": ".join(event[1:])
 
 
+def line_of_entries(book):
+    """The entries of a book in one line."""
+    return ", ".join([entry_line(entry) for entry in book]) if book else "-"
+
+
 def line_of_beginning(book):
     """The line of the first element of a log."""
-    entries = ", ".join([entry_line(entry) for entry in book])
-    return "bench " + (entries if book else "-")
+    return "bench " + line_of_entries(book)
 
 
 def event_line(event):

@@ -83,17 +83,25 @@ def has_fun_form(thing):
     return len(names) > 0 and len(set(names)) == len(names)
 
 
+def has_term_form(thing):
+    """Whether it is a name, a call or a fun, whatever stands where terms stand in it."""
+    return is_name(thing) or has_call_form(thing) or has_fun_form(thing)
+
+
+def inner_terms(term):
+    """The list of what stands where terms stand in a term, which is a term as far as has_term_form tells."""
+    if has_call_form(term):
+        return [term[1]] + list(term[2])
+    return [term[2]] if has_fun_form(term) else []
+
+
 def is_term(thing):
     waiting = [thing]
     while waiting:
         term = waiting.pop()
-        if has_call_form(term):
-            waiting.append(term[1])
-            waiting.extend(term[2])
-        elif has_fun_form(term):
-            waiting.append(term[2])
-        elif not is_name(term):
+        if not has_term_form(term):
             return False
+        waiting.extend(inner_terms(term))
     return True
 
 

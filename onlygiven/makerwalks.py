@@ -83,6 +83,12 @@ def goal_found(spots, place):
     return [goal for goal, _ in spots if goal[0] == place][0]
 
 
+def is_below(goal, other):
+    """Whether the second goal stands below the first one."""
+    place = goal[0]
+    return len(other[0]) > len(place) and other[0][:len(place)] == place
+
+
 def sizes_of(spots):
     """For each spot the size of the maker there."""
     sizes = []

@@ -1,10 +1,11 @@
-"""Plain forms of makers in which heads stand for something else.
+"""Plain forms of terms, and of makers in which heads stand for something else.
 
 A form is a maker as a triple (opened, head, makers): opened is how many variables there are opened. So it can be told
 how many arguments a form takes without a look at kinds, which may be others than those it was made for.
 """
 
 from onlygiven.goals import maker_from
+from onlygiven.kinds import names_of
 from onlygiven.kindsplits import parts_in
 
 
@@ -23,6 +24,18 @@ class Made:
         self.body = body
         self.names = names
         self.hand = hand
+
+
+class Meant:
+    """What a call or a fun means, as a value; names has the values of the names that mean something around it."""
+
+    def __init__(self, term, names):
+        self.term = term
+        self.names = names
+
+
+def value_of_term(term, names):
+    return names[term] if isinstance(term, str) else Meant(term, names)
 
 
 def form_of(spots):
@@ -44,24 +57,44 @@ def variables_for(kind, depth):
     return [Given(depth + k, part) for k, part in enumerate(parts_in(kind))]
 
 
-def plain_maker(value, kind):
-    """The maker of the kind that writes out what the value makes."""
-    waiting = [(value, kind, 0)]
+def step_of_made(value, given):
+    """The value of the head of a form, and what it is given."""
+    opened, head, forms = value.body
+    names = value.names
+    hand = value.hand + given[:opened]
+    # A form of another kind than the wanted one hands on to its head what it does not take itself.
+    behind = [Made(form, names, hand) for form in forms] + given[opened:]
+    return (names[head] if isinstance(head, str) else hand[head], behind)
+
+
+def step_of_meant(value, given):
+    """The value of the function of a call, or of the term of a fun, and what it is given."""
+    word, own, inner = value.term
+    if word == "call":
+        return (value_of_term(own, value.names), [value_of_term(term, value.names) for term in inner] + given)
+    names = dict(list(value.names.items()) + list(zip(names_of(own), given)))
+    return (value_of_term(inner, names), given[len(own):])
+
+
+def head_and_given(value, given):
+    """The name or the variable that comes to stand ahead where a value is given all that it takes, and what it gets."""
+    while not isinstance(value, Given):
+        value, given = step_of_made(value, given) if isinstance(value, Made) else step_of_meant(value, given)
+    return value, given
+
+
+def plain_maker(value, kind, given=()):
+    """The maker of the kind that writes out what the value makes of what it is given."""
+    waiting = [(value, list(given), kind, 0)]
     taken = []
     while waiting:
-        value, kind, depth = waiting.pop()
-        arguments = variables_for(kind, depth)
-        depth = depth + len(arguments)
-        while isinstance(value, Made):
-            opened, head, forms = value.body
-            names = value.names
-            hand = value.hand + arguments[:opened]
-            # A form of another kind than the wanted one hands on to its head what it does not take itself.
-            arguments = [Made(form, names, hand) for form in forms] + arguments[opened:]
-            value = names[head] if isinstance(head, str) else hand[head]
-        taken.append((value.head, len(arguments)))
-        behind = [(argument, part, depth) for argument, part in zip(arguments, parts_in(value.kind))]
-        waiting.extend(behind[::-1])
+        value, given, kind, depth = waiting.pop()
+        variables = variables_for(kind, depth)
+        depth = depth + len(variables)
+        first, behind = head_and_given(value, given + variables)
+        taken.append((first.head, len(behind)))
+        inner = [(argument, [], part, depth) for argument, part in zip(behind, parts_in(first.kind))]
+        waiting.extend(inner[::-1])
     return maker_from(taken)
 
 

@@ -5,8 +5,8 @@ A number table is a tuple of pairs of a stand and a number or None, stands ascen
 
 from onlygiven.errors import InvalidPaper
 from onlygiven.kinds import is_number, is_row, is_stand
-from onlygiven.kindsplits import end_in, kinds_inside, names_in_kind, parts_in
-from onlygiven.stands import stand_with
+from onlygiven.kindsplits import kinds_inside, names_in_kind
+from onlygiven.stands import heads_of_stand, stands_behind
 
 
 def is_table_row(thing):
@@ -27,17 +27,6 @@ def check_table_stands(book, wish, rows):
         known = stand[1] in atoms and all([kind in kinds for kind in stand[0]])
         if not known or (k > 0 and stand <= rows[k - 1][0]):
             raise InvalidPaper("stand", k)
-
-
-def heads_of_stand(book, stand):
-    """The list of the kinds with the stand's end of the names of the book and of its own kinds, each once."""
-    kinds = [entry[1] for entry in book] + list(stand[0])
-    return sorted(set([kind for kind in kinds if end_in(kind) == stand[1]]))
-
-
-def stands_behind(stand, head):
-    """The stands to which the parts of a head lead."""
-    return [stand_with(stand[0] + tuple(parts_in(part)), end_in(part)) for part in parts_in(head)]
 
 
 def head_sums(book, numbers, stand, added):

@@ -2,11 +2,10 @@
 
 from onlygiven.errors import InvalidPaper
 from onlygiven.kinds import is_maker, is_row
-from onlygiven.kindsplits import end_in, parts_in
 from onlygiven.makerwalks import spots_of
 from onlygiven.numbertables import are_table_rows, check_table_stands, head_sums
 from onlygiven.prices import added_price, check_prices, fees_of, price_of_head
-from onlygiven.stands import stand_with
+from onlygiven.stands import stand_of_wish
 
 
 def check_price_steps(book, prices, numbers):
@@ -28,7 +27,7 @@ def lets_price(book, wish, prices, thing):
     spots = spots_of(book, wish, thing[0])
     check_table_stands(book, wish, thing[1])
     numbers = dict(thing[1])
-    price = numbers.get(stand_with(parts_in(wish), end_in(wish)))
+    price = numbers.get(stand_of_wish(wish))
     if price is None:
         raise InvalidPaper("first", -1)
     check_price_steps(book, prices, numbers)

@@ -2,7 +2,7 @@
 
 from onlygiven.goals import maker_from
 from onlygiven.kinds import is_number
-from onlygiven.makerwalks import goal_found, sizes_of, usable_spots
+from onlygiven.makerwalks import goal_found, is_below, sizes_of, usable_spots
 from onlygiven.outlooks import check_wish
 from onlygiven.usable import check_usable
 
@@ -16,9 +16,7 @@ def raised(row, floor, by):
 
 def is_deeper(goal, below):
     """Whether the second goal stands below the first one and wants the same atom."""
-    place = goal[0]
-    deeper = below[0]
-    return len(deeper) > len(place) and deeper[:len(place)] == place and goal[2] == below[2]
+    return is_below(goal, below) and goal[2] == below[2]
 
 
 def pumped_row(spots, goal, below, times):

@@ -4,10 +4,32 @@ A stand has the kinds of the variables at hand, but not how many there are of ea
 to tell whether something can be made, and of what size the least maker is; and there are only so many stands.
 """
 
+from onlygiven.kindsplits import end_in, parts_in
+
 
 def stand_with(hand, atom):
     """The stand with the kinds of these variables, at which the atom is wanted."""
     return (tuple(sorted(set(hand))), atom)
+
+
+def stand_of_wish(wish):
+    return stand_with(parts_in(wish), end_in(wish))
+
+
+def stand_beyond(stand, part):
+    """The stand to which a part leads."""
+    return stand_with(stand[0] + tuple(parts_in(part)), end_in(part))
+
+
+def heads_of_stand(book, stand):
+    """The list of the kinds with the stand's end of the names of the book and of its own kinds, each once."""
+    kinds = [entry[1] for entry in book] + list(stand[0])
+    return sorted(set([kind for kind in kinds if end_in(kind) == stand[1]]))
+
+
+def stands_behind(stand, head):
+    """The stands to which the parts of a head lead."""
+    return [stand_beyond(stand, part) for part in parts_in(head)]
 
 
 def steps_from(first, given, rows, ends):

@@ -33,8 +33,18 @@ FUNCTIONS = {
         "maker_levels": "(maker)", "names_in": "(maker)", "uses_of": "(maker, name)",
         "wanted_at": "(book, wish, maker, place)",
     },
+    "termchecker": {"lets_term": "(book, thing)", "kind_of": "(book, term)"},
+    "plainforms": {
+        "plain_of": "(book, term)", "are_alike": "(book, term, other)", "applied": "(book, wish, maker, *others)",
+    },
     "makertexts": {"maker_text": "(maker)", "tree_rows": "(book, wish, maker)"},
+    "standing": {
+        "first_stand": "(wish)", "heads_at": "(book, stand)", "stand_behind": "(stand, part)",
+        "stands_from": "(book, wish)", "makeable_stands": "(book, wish)",
+    },
     "shuttables": {"shut_table": "(book, wish)"},
+    "tablechecker": {"lets_shut": "(book, wish, thing)"},
+    "countchecker": {"lets_count": "(book, wish, thing)"},
     "ordering": {
         "maker_at": "(book, wish, k)", "number_of": "(book, wish, maker)", "makers_of": "(book, wish)",
         "is_lesser": "(book, wish, maker, other)",
@@ -48,6 +58,7 @@ FUNCTIONS = {
     "handing": {
         name: "(book, let, barred)" for name in ("greatest_handouts", "least_handouts", "handout_paper")
     },
+    "handchecker": {"lets_handout": "(book, let, barred, thing)"},
     "fillingcounts": {
         "how_many_fillings": "(low, high)", "filling_for": "(low, high)", "gives_all": "(high, low)",
         "lacking_names": "(high, low)",
@@ -76,6 +87,10 @@ CLASSES = {
         "__getitem__": "(self, at)", "__len__": "(self)", "__iter__": "(self)", "__str__": "(self)",
         "__contains__": "(self, x)", "__eq__": "(self, other)", "__rshift__": "(self, other)", "__call__": "(self, other)",
     }, ("spelling", "parts", "end")),
+    "Maker": ("makerclasses", "object", "(book, wish, form)", {
+        "__len__": "(self)", "__str__": "(self)", "__eq__": "(self, other)", "__contains__": "(self, x)",
+        "__getitem__": "(self, at)", "__call__": "(self, other)", "__rshift__": "(self, other)",
+    }, ("form",)),
     "Filling": ("fillings", "object", "(low, high, makers)", {
         "__call__": "(self, wish, maker)", "__rshift__": "(self, other)", "__getitem__": "(self, at)", "__len__": "(self)",
         "__iter__": "(self)", "__eq__": "(self, other)",
@@ -89,11 +104,15 @@ CLASSES = {
         "tried": "(self, events)", "undo": "(self)", "do_all": "(self, events, *, keep=False)", "__enter__": "(self)",
         "__exit__": "(self, kind, value, trace)", "tally": "(self)", "table": "(self)", "log": "(self)",
     }, ("book_now", "let_now", "barred_now")),
+    "Desk": ("desks", "object", "(book)", {"say": "(self, row)", "tally": "(self)"}, ()),
 }
 
-CLASS_METHODS = {"Book": {"of": "(*entries)", "read": "(text)"}, "Kind": {"atom": "(name)"}}
+CLASS_METHODS = {"Book": {"of": "(*entries)", "read": "(text)"}, "Kind": {"atom": "(name)"},
+                 "Maker": {"read": "(book, wish, text)"}}
 
-STATIC_METHODS = {"Kind": {"spelled": "(thing)"}, "Filling": {"plain": "(book)"}}
+STATIC_METHODS = {
+    "Kind": {"spelled": "(thing)"}, "Filling": {"plain": "(book)"}, "Maker": {"same": "(book, kind)"},
+}
 
 CLASS_VALUES = {"Bench": {"MOST": 40}}
 

@@ -192,7 +192,7 @@ class ObjectsTest(unittest.TestCase):
         for node in classes():
             names = {row.name: row for row in methods(node)}
             if "__iter__" in names:
-                self.assertRegex(ast.unparse(names["__iter__"].body[-1]), r"\Areturn iter\(self(\.\w+)+\)\Z")
+                self.assertRegex(ast.unparse(names["__iter__"].body[-1]), r"\A(return iter\(self(\.\w+)+\)|raise TypeError\('.*'\))\Z")
             if "__getitem__" in names:
                 self.assertIn("__iter__", names)
             if "__len__" in names:
