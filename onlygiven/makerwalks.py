@@ -83,6 +83,12 @@ def goal_found(spots, place):
     return [goal for goal, _ in spots if goal[0] == place][0]
 
 
+def hands_around(spots):
+    """For each spot how many variables are at hand around its place, without those that are opened there."""
+    many = {goal[0]: len(goal[1]) for goal, _ in spots}
+    return [many[goal[0][:-1]] if goal[0] else 0 for goal, _ in spots]
+
+
 def is_below(goal, other):
     """Whether the second goal stands below the first one."""
     place = goal[0]

@@ -89,18 +89,7 @@ def enough_table(outlook, names):
 
 def used_names(outlook):
     """The set of the names that are heads in some maker of the wish."""
-    if not outlook.has_maker():
-        return ()
-    kinds = {}
-    seen = {}
-    waiting = [outlook.first]
-    while waiting:
-        stand = waiting.pop()
-        if stand not in seen:
-            seen[stand] = True
-            for kind in outlook.sizes[stand]:
-                kinds[kind] = True
-                waiting.extend(outlook.steps[stand][kind])
+    kinds = {kind: True for heads in outlook.made_steps().values() for kind in heads}
     # A name may be the head wherever a variable of its kind may.
     return tuple([name for name, kind in outlook.book if kind in kinds])
 

@@ -7,6 +7,7 @@ how many arguments a form takes without a look at kinds, which may be others tha
 from onlygiven.goals import maker_from
 from onlygiven.kinds import names_of
 from onlygiven.kindsplits import parts_in
+from onlygiven.makerwalks import hands_around
 
 
 class Given:
@@ -40,15 +41,13 @@ def value_of_term(term, names):
 
 def form_of(spots):
     """The form of the maker of these spots."""
-    hands = {goal[0]: len(goal[1]) for goal, _ in spots}
     forms = []
-    for (place, hand, _), (head, makers) in spots[::-1]:
+    for ((_, hand, _), (head, makers)), around in list(zip(spots, hands_around(spots)))[::-1]:
         # The forms of the makers of this one stand at the end, in reverse.
         start = len(forms) - len(makers)
         behind = forms[start:]
         del forms[start:]
-        opened = len(hand) - (hands[place[:-1]] if place else 0)
-        forms.append((opened, head, behind[::-1]))
+        forms.append((len(hand) - around, head, behind[::-1]))
     return forms[0]
 
 

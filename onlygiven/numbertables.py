@@ -42,3 +42,13 @@ def head_sums(book, numbers, stand, added):
         known = all([other in numbers for other in below])
         sums.append(added(stand, head) + sum([numbers[other] for other in below]) if known else None)
     return sums
+
+
+def check_table_steps(book, numbers, added, fits):
+    """Each row of the table is right; fits tells whether a number goes with what a head and its parts add up to."""
+    for k, (stand, number) in enumerate(numbers.items()):
+        sums = head_sums(book, numbers, stand, added)
+        if number is None and len(sums) > 0:
+            raise InvalidPaper("step", k)
+        if any([total is None or not fits(number, total) for total in sums]):
+            raise InvalidPaper("step", k)

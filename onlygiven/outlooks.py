@@ -1,5 +1,6 @@
 """What is to be known of a wish over a book before any maker is made."""
 
+from onlygiven.errors import NotMade
 from onlygiven.kinds import is_book, is_kind
 from onlygiven.kindsplits import end_in, kinds_inside, parts_in
 from onlygiven.stands import head_sizes, least_sizes, stand_with, steps_from
@@ -31,6 +32,18 @@ class Outlook:
         """Whether the wish has a maker."""
         return self.first in self.least
 
+    def made_steps(self):
+        """For each stand of a maker of the wish, for each head that can be taken there, the stands behind it."""
+        made = {}
+        waiting = [self.first] if self.has_maker() else []
+        while waiting:
+            stand = waiting.pop()
+            if stand not in made:
+                made[stand] = {kind: self.steps[stand][kind] for kind in self.sizes[stand]}
+                for stands in made[stand].values():
+                    waiting.extend(stands)
+        return made
+
     def shut_stands(self):
         """The set of the stands at which nothing can be made."""
         return tuple(sorted([stand for stand in self.steps if stand not in self.least]))
@@ -46,3 +59,11 @@ def outlook_for(book, wish):
     """The outlook of any two values, if they are a book and a wish."""
     check_wish(book, wish)
     return Outlook(book, wish)
+
+
+def made_outlook(book, wish):
+    """The outlook of a book and a wish that has a maker; NotMade if it has none."""
+    outlook = Outlook(book, wish)
+    if not outlook.has_maker():
+        raise NotMade(wish)
+    return outlook

@@ -3,20 +3,9 @@
 from onlygiven.errors import InvalidPaper
 from onlygiven.kinds import is_maker, is_row
 from onlygiven.makerwalks import spots_of
-from onlygiven.numbertables import are_table_rows, check_table_stands, head_sums
+from onlygiven.numbertables import are_table_rows, check_table_stands, check_table_steps
 from onlygiven.prices import added_price, check_prices, fees_of, price_of_head
 from onlygiven.stands import stand_of_wish
-
-
-def check_price_steps(book, prices, numbers):
-    """Each row of the table is right."""
-    fees = fees_of(book, prices)
-    for k, (stand, number) in enumerate(numbers.items()):
-        sums = head_sums(book, numbers, stand, lambda at, head: added_price(fees, at, head))
-        if number is None and len(sums) > 0:
-            raise InvalidPaper("step", k)
-        if any([total is None or number > total for total in sums]):
-            raise InvalidPaper("step", k)
 
 
 def lets_price(book, wish, prices, thing):
@@ -30,7 +19,9 @@ def lets_price(book, wish, prices, thing):
     price = numbers.get(stand_of_wish(wish))
     if price is None:
         raise InvalidPaper("first", -1)
-    check_price_steps(book, prices, numbers)
+    fees = fees_of(book, prices)
+    check_table_steps(
+        book, numbers, lambda stand, head: added_price(fees, stand, head), lambda number, total: number <= total)
     if price != sum([price_of_head(prices, part[0]) for _, part in spots]):
         raise InvalidPaper("price", -1)
     return price

@@ -36,5 +36,5 @@ def fees_of(book, prices):
 
 
 def added_price(fees, stand, kind):
-    """What a head of this kind adds at a stand, where a variable costs nothing."""
-    return 0 if kind in stand[0] else fees[kind]
+    """What a head of this kind adds at a stand at least, where a variable costs nothing."""
+    return min(0, fees.get(kind, 0)) if kind in stand[0] else fees[kind]

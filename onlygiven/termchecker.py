@@ -3,21 +3,8 @@
 from onlygiven.errors import InvalidPaper, NotUsable
 from onlygiven.kinds import has_term_form, inner_terms, is_book
 from onlygiven.kindsplits import end_in, kind_with, parts_in
-from onlygiven.termwalks import first_spot, spots_in, spots_inside_out
+from onlygiven.termwalks import spots_down, spots_inside_out
 from onlygiven.usable import check_usable
-
-
-def spots_of_term(book, thing):
-    """The list of all spots of a term by form, ascending by place."""
-    waiting = [first_spot(book, thing)]
-    spots = []
-    while waiting:
-        spot = waiting.pop()
-        if not has_term_form(spot[1]):
-            raise InvalidPaper("shape", spot[0])
-        spots.append(spot)
-        waiting.extend(spots_in(spot)[::-1])
-    return spots
 
 
 def check_names(spots):
@@ -51,7 +38,7 @@ def kind_at(spot, kinds):
 def lets_term(book, thing):
     """The kind of a term that is right for the book; InvalidPaper if it is none."""
     check_usable(is_book(book), "book")
-    check_names(spots_of_term(book, thing))
+    check_names(spots_down(book, thing, has_term_form))
     kinds = []
     for spot in spots_inside_out(book, thing):
         # The kinds of the terms in this one stand at the end.

@@ -37,12 +37,15 @@ FUNCTIONS = {
     "plainforms": {
         "plain_of": "(book, term)", "are_alike": "(book, term, other)", "applied": "(book, wish, maker, *others)",
     },
+    "termforms": {"term_of": "(book, wish, maker)"},
     "makertexts": {"maker_text": "(maker)", "tree_rows": "(book, wish, maker)"},
     "standing": {
         "first_stand": "(wish)", "heads_at": "(book, stand)", "stand_behind": "(stand, part)",
         "stands_from": "(book, wish)", "makeable_stands": "(book, wish)",
     },
     "shuttables": {"shut_table": "(book, wish)"},
+    "worlds": {"world_of": "(book, wish)", "holds_at": "(world, row, kind)"},
+    "worldchecker": {"lets_world": "(book, wish, thing)"},
     "tablechecker": {"lets_shut": "(book, wish, thing)"},
     "countchecker": {"lets_count": "(book, wish, thing)"},
     "ordering": {
@@ -52,6 +55,8 @@ FUNCTIONS = {
     "pumping": {"pumped": "(book, wish, maker, place, deeper, times)"},
     "pricing": {name: "(book, wish, prices)" for name in ("least_price", "cheapest_maker", "price_paper")},
     "pricechecker": {"lets_price": "(book, wish, prices, thing)"},
+    "uses": {"most_uses": "(book, wish, name)", "use_paper": "(book, wish, name)"},
+    "usechecker": {"lets_uses": "(book, wish, name, thing)"},
     "naming": {
         name: "(book, wish)" for name in ("needed_names", "names_of_use", "least_names", "greatest_without")
     },
@@ -64,6 +69,7 @@ FUNCTIONS = {
         "lacking_names": "(high, low)",
     },
     "instances": {"instance_maker": "(book, wish, maker, atom, other)"},
+    "gaps": {"filled_term": "(book, term, kind)"},
     "benchevents": {"is_event": "(thing)"},
     "benchlogs": {"is_log": "(thing)", "replayed": "(log)"},
     "benchtexts": {"event_line": "(event)", "log_lines": "(log)"},
@@ -87,6 +93,10 @@ CLASSES = {
         "__getitem__": "(self, at)", "__len__": "(self)", "__iter__": "(self)", "__str__": "(self)",
         "__contains__": "(self, x)", "__eq__": "(self, other)", "__rshift__": "(self, other)", "__call__": "(self, other)",
     }, ("spelling", "parts", "end")),
+    "Meaning": ("meanings", "object", "(book, values)", {
+        "__call__": "(self, term)", "of_maker": "(self, wish, maker)",
+    }, ()),
+    "Recorder": ("recorders", "object", "(book)", {"__call__": "(self, term)", "record": "(self, wish, maker)"}, ()),
     "Maker": ("makerclasses", "object", "(book, wish, form)", {
         "__len__": "(self)", "__str__": "(self)", "__eq__": "(self, other)", "__contains__": "(self, x)",
         "__getitem__": "(self, at)", "__call__": "(self, other)", "__rshift__": "(self, other)",
