@@ -42,7 +42,8 @@ def value_of_term(term, names):
 def form_of(spots):
     """The form of the maker of these spots."""
     forms = []
-    for ((_, hand, _), (head, makers)), around in list(zip(spots, hands_around(spots)))[::-1]:
+    for spot, around in list(zip(spots, hands_around(spots)))[::-1]:
+        (_, hand, _), (head, makers) = spot
         # The forms of the makers of this one stand at the end, in reverse.
         start = len(forms) - len(makers)
         behind = forms[start:]

@@ -25,7 +25,8 @@ def written_term(book, spots):
     """The term that the maker of these spots writes out."""
     names = names_besides(book, max([len(goal[1]) for goal, _ in spots]))
     terms = []
-    for ((_, hand, _), (head, makers)), around in list(zip(spots, hands_around(spots)))[::-1]:
+    for spot, around in list(zip(spots, hands_around(spots)))[::-1]:
+        (_, hand, _), (head, makers) = spot
         # The terms of the makers of this one stand at the end, in reverse.
         start = len(terms) - len(makers)
         behind = tuple(terms[start:][::-1])

@@ -27,7 +27,7 @@ def check_most(book, wish, name, spots, rows):
         raise InvalidPaper("first", -1)
     used = dict(book)[name]
     check_table_steps(
-        book, numbers, lambda _, head: 1 if head == used else 0, lambda number, total: number >= total)
+        book, numbers, lambda stand, head: 1 if head == used else 0, lambda number, total: number >= total)
     if number != len([part for _, part in spots if part[0] == name]):
         raise InvalidPaper("most", -1)
     return number

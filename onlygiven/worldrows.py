@@ -1,4 +1,7 @@
-"""The rows of worlds, and what holds at them. A set of rows is a number here: its bit i tells whether row i is in it."""
+"""The rows of worlds, and what holds at them.
+
+A set of rows is a number here: its bit i tells whether row i is in it.
+"""
 
 from onlygiven.errors import InvalidPaper
 from onlygiven.kinds import is_ascending, is_name, is_number, is_row
