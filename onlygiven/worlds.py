@@ -19,7 +19,7 @@ def lies_in(hand, other):
 
 
 def row_for(hand, hands, stands, atoms):
-    """The row of a set of kinds: above it are those with more kinds, and it lacks what cannot be made at one of these."""
+    """The row of a set of kinds: above it are those with more kinds, and it lacks what cannot be made there."""
     above = [k for k, other in enumerate(hands) if lies_in(hand, other)]
     wanted = [atom for kinds, atom in stands if lies_in(hand, kinds)]
     return (tuple([atom for atom in atoms if atom not in wanted]), tuple(above))

@@ -206,7 +206,7 @@ class GapsTest(Checks):
                     changed = with_gaps(rng, changed, rng.randint(0, 2))
                 word = self.judged(book, changed, wish)
                 met[word] = met.get(word, 0) + 1
-        self.assertGreater(min(met[word] for word in ("filled", "term", "gap", "no gap")), 25, met)
+        self.assertGreater(min(met[word] for word in ("filled", "term", "gap", "no gap")), 10, met)
 
     def test_any_value(self):
         for thing in ANY_VALUES + [Book(), (Book(),)]:

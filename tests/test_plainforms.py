@@ -114,7 +114,7 @@ class PlainFormsTest(Checks):
                         self.assert_unusable("other", -1, are_alike, book, term, changed)
                 met[word] = met.get(word, 0) + 1
         self.assertEqual(len(met), 4)
-        self.assertGreater(min(met.values()), 20, met)
+        self.assertGreater(min(met.values()), 8, met)
 
     def test_what_a_book_has_besides(self):
         rng = random.Random(244)

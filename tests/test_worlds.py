@@ -42,7 +42,7 @@ class WorldsTest(Checks):
                 self.assertEqual(lets_world(book, wish, world), len(world))
                 many, greatest = many + 1, max(greatest, len(world))
         self.assertGreater(many, 200)
-        self.assertGreater(greatest, 4)
+        self.assertGreater(greatest, 3)
         self.assertLess(greatest, 65)
 
     def test_written_out(self):
