@@ -46,8 +46,8 @@ def filled_term(book, term, kind):
     spots = usable_term_spots(book, term)
     check_usable(is_kind(kind), "kind")
     gaps = [(spot, want) for spot, want in zip(spots, wants_of(spots, kind)) if spot[1] == GAP]
-    for (place, _, _), want in gaps:
+    for spot, want in gaps:
         if not want:
-            raise NotUsable("gap", place)
+            raise NotUsable("gap", spot[0])
     fillers = {place: term_for_gap(place, kinds, want) for (place, _, kinds), want in gaps}
     return built_up(spots, lambda spot, inner: term_with(fillers, spot, inner))[0]

@@ -5,7 +5,7 @@ whether it is right, except for its names.
 """
 
 from onlygiven.errors import NotUsable
-from onlygiven.kinds import has_term_form
+from onlygiven.kinds import has_term_form, inner_terms
 from onlygiven.kindsplits import end_in, kind_with, parts_in
 from onlygiven.termwalks import built_up
 
@@ -62,28 +62,21 @@ def wants_in(term, want, kinds):
     if isinstance(term, str) or term == GAP:
         return []
     if want == NAMES_ALONE:
-        return [NAMES_ALONE] if term[0] == "fun" else [NAMES_ALONE] + [NAMES_ALONE for _ in term[2]]
+        return [NAMES_ALONE for _ in inner_terms(term)]
     return wants_in_call(term, kinds[1]) if term[0] == "call" else wants_in_fun(term, want)
-
-
-def has_other_kind(term, want, kind):
-    """Whether a name or a call has another kind than that at which it is wanted."""
-    if not want or kind is None or term[0] == "fun":
-        return False
-    return kind != want
 
 
 def wants_of(spots, kind):
     """The wants of all spots, ascending by place, the whole being wanted at the kind; NotUsable if it is not right."""
-    check_right(all([not isinstance(term, str) or term in kinds for _, term, kinds in spots]))
+    check_right(all([not isinstance(term, str) or term in known for _, term, known in spots]))
     kinds = built_up(spots, own_kind)
     waiting = [kind]
     wants = []
-    for k, (_, term, _) in enumerate(spots):
+    for k, spot in enumerate(spots):
         want = waiting.pop()
-        check_right(not has_other_kind(term, want, kinds[k]))
+        check_right(not want or kinds[k] is None or kinds[k] == want)
         wants.append(want)
         # The function of a call stands right behind it.
-        behind = wants_in(term, want, kinds[k:k + 2])
+        behind = wants_in(spot[1], want, kinds[k:k + 2])
         waiting.extend(behind[::-1])
     return wants

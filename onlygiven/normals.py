@@ -43,12 +43,12 @@ def form_of(spots):
     """The form of the maker of these spots."""
     forms = []
     for spot, around in list(zip(spots, hands_around(spots)))[::-1]:
-        (_, hand, _), (head, makers) = spot
+        goal, (head, makers) = spot
         # The forms of the makers of this one stand at the end, in reverse.
         start = len(forms) - len(makers)
         behind = forms[start:]
         del forms[start:]
-        forms.append((len(hand) - around, head, behind[::-1]))
+        forms.append((len(goal[1]) - around, head, behind[::-1]))
     return forms[0]
 
 

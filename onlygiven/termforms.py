@@ -26,7 +26,8 @@ def written_term(book, spots):
     names = names_besides(book, max([len(goal[1]) for goal, _ in spots]))
     terms = []
     for spot, around in list(zip(spots, hands_around(spots)))[::-1]:
-        (_, hand, _), (head, makers) = spot
+        goal, (head, makers) = spot
+        hand = goal[1]
         # The terms of the makers of this one stand at the end, in reverse.
         start = len(terms) - len(makers)
         behind = tuple(terms[start:][::-1])

@@ -3,7 +3,7 @@ import unittest
 
 from books import LIST, PAIR
 from checks import Checks
-from makerly import numeral
+from makerly import numeral, places_in
 from onlygiven.bookclasses import Book
 from onlygiven.errors import NotMade
 from onlygiven.judging import can_make
@@ -99,6 +99,19 @@ class UsesTest(Checks):
             else:
                 self.assertEqual(uses, number)
         self.assertLess(greatest, 61)
+
+    def test_least_makers_of_papers(self):
+        """No lesser maker shows that there is no end."""
+        met = {}
+        for book, wish, name in CASES:
+            if can_make(book, wish) and most_uses(book, wish, name) is None:
+                found = [size for size in range(1, 6) if any(
+                    use_fault(book, wish, name, ("endless", maker, place, deeper)) is None
+                    for maker in makers_of_size(book, wish, size) for place in places_in(maker) for deeper in places_in(maker))]
+                size = size_of_maker(use_paper(book, wish, name)[1])
+                self.assertEqual(found[:1], [size] if size < 6 else [])
+                met[size] = met.get(size, 0) + 1
+        self.assertGreater(min(met.get(size, 0) for size in (2, 3, 4, 5)), 3, met)
 
     def test_more_names(self):
         """None is above all numbers."""
