@@ -1,6 +1,8 @@
 """Terms judged by a second reading, written in several ways, changed, and made plain in another way than in the package."""
 
-from plainly import heads_in, kind_of_tree, random_kind, tree_of, trees_in
+import random
+
+from plainly import kind_of_tree, random_book, random_kind, tree_of, trees_in
 from values import is_plainly_a_kind, is_plainly_a_name
 
 
@@ -314,5 +316,57 @@ def changed_term(rng, book, term):
     return with_term_at(term, place, rng.choice(found)())
 
 
-def used_heads(maker):
-    return set(heads_in(maker))
+# Terms at random.
+
+def drawn_fun(rng, tree, known, budget, many):
+    """A fun of so many variables, some of them called like what is around it; None if no term was found."""
+    parts, end = tree
+    names = rng.sample(NAMES, many)
+    inner = drawn_term(rng, (parts[many:], end), {**known, **dict(zip(names, parts))}, budget - 1)
+    return inner and ("fun", tuple((name, kind_of_tree(part)) for name, part in zip(names, parts)), inner)
+
+
+def drawn_call(rng, tree, known, budget):
+    """The call of a term that may be a fun, with terms of kinds at random; None if no term was found."""
+    trees = tuple(tree_of(random_kind(rng, 3, ("p", "q"), 2)) for _ in range(rng.randint(1, 2)))
+    terms = [drawn_term(rng, one, known, budget - 2) for one in ((trees + tree[0], tree[1]), *trees)]
+    return None if None in terms else ("call", terms[0], tuple(terms[1:]))
+
+
+def drawn_name(rng, tree, known, budget):
+    """A name, or a call of one; None if no term was found."""
+    heads = [(name, kind[0][:k]) for name, kind in known.items() for k in range(len(kind[0]) + 1)
+             if (kind[0][k:], kind[1]) == tree]
+    rng.shuffle(heads)
+    for name, parts in sorted(heads, key=lambda head: len(head[1]) * (budget <= 0))[:2]:
+        if budget > -5 or not parts:
+            terms = [drawn_term(rng, part, known, budget - 1) for part in parts]
+            if None not in terms:
+                return ("call", name, tuple(terms)) if terms else name
+    return None
+
+
+def drawn_term(rng, tree, known, budget):
+    """A term of this kind where names have these kinds, None if none was found; it is deeper with more budget."""
+    many = len(tree[0])
+    if many > len(NAMES):
+        return None
+    if many and rng.random() < 0.6:
+        return drawn_fun(rng, tree, known, budget, rng.randint(1, many))
+    term = None
+    if budget > 0 and rng.random() < 0.35:
+        term = drawn_call(rng, tree, known, budget)
+    term = term or drawn_name(rng, tree, known, budget)
+    return term or (drawn_fun(rng, tree, known, budget, many) if many and budget > -5 else None)
+
+
+def drawn_terms(seed, count, budgets=(3, 8)):
+    """Books with terms that are right for them."""
+    rng, found = random.Random(seed), []
+    while len(found) < count:
+        book = tuple(sorted({**dict(random_book(rng, 3, 4, ("p", "q"), 2)), "a": "p", "b": "q"}.items()))
+        tree = tree_of(random_kind(rng, 5, ("p", "q"), 3))
+        term = drawn_term(rng, tree, dict(trees_in(book)), rng.randint(*budgets))
+        if term is not None and len(all_inner(term)) < 150:
+            found.append((book, kind_of_tree(tree), term))
+    return found

@@ -10,7 +10,7 @@ from onlygiven.meanings import Meaning
 from onlygiven.plainforms import plain_of
 from onlygiven.termforms import term_of
 from plainly import makers_of_size, tree_of, trees_in, wishes_of_all_sorts
-from termly import terms_for, tree_of_term
+from termly import drawn_terms, terms_for, tree_of_term
 from test_termchecker import NO_TERMS
 from values import ANY_VALUES, NO_BOOKS, NO_KINDS, NO_MAKERS, nested
 
@@ -21,7 +21,7 @@ VALUES = (("f", max), ("a", 3), ("b", 5))
 WISHES = wishes_of_all_sorts(29, 90, names=5) + wishes_of_all_sorts(291, 50, names=4, order=3)
 
 MADE = [(book, wish, maker) for book, wish in WISHES
-        for size in range(1, 6) for maker in makers_of_size(book, wish, size)[:3]]
+        for size in range(1, 6) for maker in makers_of_size(book, wish, size)[:2]]
 
 
 class World:
@@ -110,6 +110,16 @@ class MeaningTest(Checks):
                 self.assertEqual(world.print_of(tree, meaning(term_of(book, wish, plain_of(book, term)))), expected)
             great += any(part[0] for part in tree[0])
         self.assertGreater(great, 40)
+
+    def test_drawn_terms(self):
+        rng = random.Random(294)
+        for book, kind, term in drawn_terms(295, 120, (3, 6)):
+            world, trees = World(rng), dict(trees_in(book))
+            values = {name: world.value(tree) for name, tree in trees.items()}
+            meaning = Meaning(book, tuple(values.items()))
+            expected = world.print_of(tree_of(kind), value_by_words(trees, values, term))
+            self.assertEqual(world.print_of(tree_of(kind), meaning(term)), expected)
+            self.assertEqual(world.print_of(tree_of(kind), meaning.of_maker(kind, plain_of(book, term))), expected)
 
     def test_written_out(self):
         book = (("apply", "(p -> p) -> p -> p"), ("n", "p"), ("next", "p -> p"), ("take", "((p -> p) -> p) -> p"))

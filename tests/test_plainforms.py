@@ -8,7 +8,7 @@ from makerly import CHURCH, fault_of, numeral, random_maker
 from onlygiven.bookclasses import Book
 from onlygiven.plainforms import applied, are_alike, plain_of
 from plainly import kind_of_tree, makers_of_size, random_book, random_kind, tree_of, wishes_of_all_sorts
-from termly import changed_term, plain_by_values, plain_kind, term_fault, terms_for, written_out
+from termly import all_inner, changed_term, drawn_terms, plain_by_values, plain_kind, term_fault, terms_for, written_out
 from test_termchecker import NO_TERMS
 from values import ANY_VALUES, NO_BOOKS, NO_KINDS, NO_MAKERS, nested
 
@@ -115,6 +115,17 @@ class PlainFormsTest(Checks):
                 met[word] = met.get(word, 0) + 1
         self.assertEqual(len(met), 4)
         self.assertGreater(min(met.values()), 8, met)
+
+    def test_drawn_terms(self):
+        """Calls of funs in calls of funs, with functions as what is handed to them."""
+        longest = 0
+        for book, kind, term in drawn_terms(246, 500):
+            self.assertIsNone(term_fault(book, term))
+            plain = plain_by_values(book, term)
+            self.assert_gives(plain, plain_of, book=book, term=term)
+            self.assertIsNone(fault_of(book, kind, plain))
+            longest = max(longest, len(all_inner(term)))
+        self.assertGreater(longest, 60)
 
     def test_what_a_book_has_besides(self):
         rng = random.Random(244)
