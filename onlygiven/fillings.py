@@ -3,6 +3,7 @@
 from onlygiven.bookchanges import has_name
 from onlygiven.errors import NotUsable
 from onlygiven.kinds import is_book, is_kind, is_row, names_of
+from onlygiven.makertexts import maker_text
 from onlygiven.makerwalks import usable_spots
 from onlygiven.normals import Made, form_of, plain_maker, values_of_names
 from onlygiven.usable import check_usable
@@ -31,8 +32,8 @@ class Filling:
         self._low = low
         self._high = high
         self._rows = makers
-        # What tells whether two fillings are equal.
-        self._facts = (low, high, makers)
+        # What tells whether two fillings are equal: unlike makers have unlike texts, and may be of any depth.
+        self._facts = (low, high, [maker_text(maker) for maker in makers])
 
     def __call__(self, wish, maker):
         """The plain form, over high, of what a maker over low writes out with the maker of each name."""

@@ -36,12 +36,12 @@ class Maker:
         self._book = book
         self._wish = wish
         self._root = form
-        # What tells whether two makers are equal.
-        self._facts = (book, wish, form)
         self._value = Made(form_of(spots), values_of_names(book), [])
         self._spots = spots
         self._heads = names_in(form)
         self._written = maker_text(form)
+        # What tells whether two makers are equal: unlike makers have unlike texts, and may be of any depth.
+        self._facts = (book, wish, self._written)
         self._first = tuple(parts_in(wish)[:1])
         self._behind = without_first(wish)
 

@@ -2,6 +2,7 @@
 
 from onlygiven.errors import InvalidPaper, NotUsable
 from onlygiven.kindsplits import end_in, kind_with, parts_in
+from onlygiven.makertexts import maker_text
 from onlygiven.makerwalks import spots_of, usable_spots
 from onlygiven.normals import Made, form_of, plain_maker, value_of_term, values_of_names
 from onlygiven.outlooks import check_wish
@@ -23,7 +24,8 @@ def are_alike(book, term, other):
     """Whether two terms of one kind have the same value in every meaning."""
     kind = usable_kind(book, term, "term")
     check_usable(usable_kind(book, other, "other") == kind, "other")
-    return plain_term(book, term, kind) == plain_term(book, other, kind)
+    # Unlike makers have unlike texts; and texts are compared without calls in calls, makers may be of any depth.
+    return maker_text(plain_term(book, term, kind)) == maker_text(plain_term(book, other, kind))
 
 
 def spots_of_others(book, parts, others):

@@ -105,6 +105,15 @@ class MakerTest(MakerChecks):
             self.assertIs(one == other, True)
             self.assertIs(one != other, False)
 
+    def test_deep(self):
+        form = ("x", ())
+        for _ in range(1500):
+            form = ("f", (form,))
+        one, two = [Maker((("f", "p -> p"), ("x", "p")), "p", thing) for thing in (form, ("f", (form,)))]
+        self.assertTrue(one == Maker.read((("f", "p -> p"), ("x", "p")), "p", str(one)))
+        self.assertFalse(one == two)
+        self.assertEqual([len(one), len(two), one[(0,) * 1500]], [1501, 1502, "x"])
+
     def test_not_usable(self):
         wrong = {"book": NO_BOOKS + [Book(PAIR), Maker.same((), "p")], "wish": NO_KINDS + [Maker.same((), "p")]}
         forms = NO_MAKERS + [("a", ()), ("f", (("a", ()),)), ("f", (("a", ()), (0, ()))), Maker.same((), "p")]

@@ -149,6 +149,8 @@ class PlainFormsTest(Checks):
             self.assertEqual(maker[0], "f")
             maker, = maker[1]
         self.assertEqual(maker, ("x", ()))
+        other = nested(1500, lambda inner: ("call", "f", (inner[0],)), ("call", "f", ("x",)))
+        self.assert_is([are_alike((("f", "p -> p"), ("x", "p")), deep, thing) for thing in (deep, other)], [True, False])
         chain = nested(400, lambda inner: ("call", ("fun", (("x", "p"),), inner[0]), ("x",)), "x")
         self.assertEqual(plain_of((("x", "p"),), chain), ("x", ()))
 
