@@ -35,9 +35,10 @@ def spots_of_others(book, parts, others):
         if k >= len(parts):
             raise NotUsable("others", k)
         try:
-            rows.append(spots_of(book, parts[k], other))
+            spots = spots_of(book, parts[k], other)
         except InvalidPaper:
             raise NotUsable("others", k) from None
+        rows.append(spots)
     return rows
 
 
