@@ -3,7 +3,7 @@
 from onlygiven.errors import NotMade
 from onlygiven.kinds import is_book, is_kind
 from onlygiven.kindsplits import end_in, kinds_inside, parts_in
-from onlygiven.stands import head_sizes, least_sizes, stand_with, steps_from
+from onlygiven.stands import head_sizes, least_sizes, stand_with, stands_below, steps_from
 from onlygiven.usable import check_usable
 
 
@@ -35,13 +35,15 @@ class Outlook:
     def made_steps(self):
         """For each stand of a maker of the wish, for each head that can be taken there, the stands behind it."""
         made = {}
-        waiting = [self.first] if self.has_maker() else []
+        waiting = []
+        if self.has_maker():
+            waiting.append(self.first)
         while waiting:
             stand = waiting.pop()
             if stand not in made:
-                made[stand] = {kind: self.steps[stand][kind] for kind in self.sizes[stand]}
-                for stands in made[stand].values():
-                    waiting.extend(stands)
+                heads = {kind: self.steps[stand][kind] for kind in self.sizes[stand]}
+                waiting.extend(stands_below(heads))
+                made[stand] = heads
         return made
 
     def shut_stands(self):

@@ -32,6 +32,11 @@ def stands_behind(stand, head):
     return [stand_beyond(stand, part) for part in parts_in(head)]
 
 
+def stands_below(heads):
+    """The list of the stands behind all of these heads, one head after the other."""
+    return [stand for stands in heads.values() for stand in stands]
+
+
 def steps_from(first, given, rows, ends):
     """For each stand to which the first one leads: for each of its heads the stands to which the parts lead.
 
@@ -45,9 +50,9 @@ def steps_from(first, given, rows, ends):
             continue
         kinds, atom = stand
         heads = sorted(set([kind for kind in given + list(kinds) if ends[kind] == atom]))
-        steps[stand] = {head: [stand_with(kinds + rows[part], ends[part]) for part in rows[head]] for head in heads}
-        for stands in steps[stand].values():
-            waiting.extend(stands)
+        behind = {head: [stand_with(kinds + rows[part], ends[part]) for part in rows[head]] for head in heads}
+        waiting.extend(stands_below(behind))
+        steps[stand] = behind
     return steps
 
 

@@ -4,6 +4,7 @@ import ast
 import unittest
 
 from test_language import METHODS, nodes, trees
+from walked import CHANGING, chosen_and_changed, items_walked, walked_and_changed
 
 IN_PLACE = {"__iadd__", "__isub__", "__imul__", "__ior__", "__iand__", "__ixor__", "__ilshift__", "__irshift__"}
 
@@ -13,10 +14,6 @@ QUIET = set(
 )
 
 OTHERS = {"__init__", "__enter__", "__exit__", "__call__", "__iter__", "__setitem__"}
-
-CHANGING = set(
-    "append clear extend insert pop remove reverse setdefault update sort add discard".split()
-)
 
 AT_ONCE = {"zip", "enumerate", "reversed", "range", "map"}
 VIEWS = {"items", "keys", "values"}
@@ -82,45 +79,6 @@ def creates(value):
     if isinstance(value, ast.Call):
         return isinstance(value.func, ast.Name) and value.func.id in ("list", "dict", "sorted")
     return isinstance(value, (ast.List, ast.Dict, ast.ListComp))
-
-
-def chains(expression):
-    """The names and the fields of names in an expression, written out."""
-    found = set()
-    for node in ast.walk(expression):
-        base = node
-        while isinstance(base, ast.Attribute):
-            base = base.value
-        if isinstance(base, ast.Name):
-            found.add(ast.unparse(node))
-    return found - {"self"}
-
-
-def changed_in(rows):
-    """What the rows change: what stands ahead of a method that changes, of an index, or an attribute."""
-    for row in rows:
-        for node in ast.walk(row):
-            if isinstance(node, ast.Call) and isinstance(node.func, ast.Attribute) and node.func.attr in CHANGING:
-                yield node.func.value
-            elif isinstance(node, (ast.Subscript, ast.Attribute)) and not isinstance(node.ctx, ast.Load):
-                yield node.value if isinstance(node, ast.Subscript) else node
-
-
-def walked_and_changed(tree):
-    """What a loop walks and changes, as far as names tell it: by a name, a field, or where it picks by such."""
-    found = []
-    for loop in ast.walk(tree):
-        if isinstance(loop, ast.For):
-            walked, rows = chains(loop.iter), loop.body
-        elif isinstance(loop, (ast.ListComp, ast.SetComp, ast.DictComp)):
-            walked, rows = set().union(*[chains(part.iter) for part in loop.generators]), [loop]
-        else:
-            continue
-        for changed in changed_in(rows):
-            for name in chains(changed):
-                if any(name == other or name.startswith(other + ".") or other.startswith(name + ".") for other in walked):
-                    found.append(f"{ast.unparse(changed)}:{changed.lineno}")
-    return found
 
 
 def parents(tree):
@@ -212,6 +170,8 @@ class ObjectsTest(unittest.TestCase):
     def test_what_is_walked_is_not_changed(self):
         for path, tree in trees().items():
             self.assertEqual(walked_and_changed(tree), [], path)
+            self.assertEqual(chosen_and_changed(tree), [], path)
+            self.assertEqual(items_walked(tree), [], path)
 
     def test_what_is_walked_and_changed_is_found(self):
         for loop, row in (
@@ -223,6 +183,49 @@ class ObjectsTest(unittest.TestCase):
             self.assertTrue(walked_and_changed(ast.parse(f"{loop}:\n    {row}")), row)
         for loop, row in (("for x in list(rows)", "others.append(x)"), ("for x in self.rows", "self.others[x] = x")):
             self.assertFalse(walked_and_changed(ast.parse(f"{loop}:\n    {row}")), row)
+
+    def test_what_is_chosen_and_changed_is_found(self):
+        """The rows of a function that goes on with what waits: each choice, and each item, is told by its row."""
+        for first, chosen in (
+            ("[self.first] if self.has_maker() else []", True), ("[] if self.many else [self.first]", True),
+            ("self.found or []", True), ("self.many and self.found", True), ("[self.first]", False), ("[]", False),
+        ):
+            tree = ast.parse("\n".join([
+                "def made_steps(self):", "    made = {}", f"    waiting = {first}", "    while waiting:",
+                "        stand = waiting.pop()", "        if stand not in made:",
+                "            made[stand] = {kind: self.steps[stand][kind] for kind in self.sizes[stand]}",
+                "            for stands in made[stand].values():", "                waiting.extend(stands)",
+                "    return made",
+            ]))
+            self.assertEqual(chosen_and_changed(tree), ["waiting:9"] if chosen else [], first)
+            self.assertEqual(items_walked(tree), ["made[stand]:8"], first)
+
+    def test_what_is_chosen_is_followed(self):
+        """By another name, to an item or a field, beside another value, in a comprehension; but not where it ends."""
+        for head, loop, row, many in (
+            ("xs = rows if k else []", "for x in rows", "xs.append(x)", 1),
+            ("xs = [] if k else rows\n    ys = xs", "for x in rows", "ys.append(x)", 1),
+            ("xs, y = rows or [], 1", "for x in rows[1:]", "xs[0] = x", 1),
+            ("xs = {}\n    xs[0] = rows or []", "for x in rows", "xs[0].append(x)", 1),
+            ("xs = k or box.rows", "for x in box.rows", "xs.rows = x", 1),
+            ("ys = list(rows)\n    xs = rows if k else []", "for x in ys", "xs.append(x)", 1),
+            ("xs = rows if k else []", "for x in others", "ys = [xs.pop() for x in rows]", 1),
+            ("xs = rows if k else []", "for x in others", "xs.append(x)", 0),
+            ("xs = rows if k else []", "for x in rows", "ys.append(xs)", 0),
+            ("xs = list(rows)", "for x in rows", "xs.append(x)", 0),
+            ("xs = [] if rows else []", "for x in rows", "xs.append(x)", 0),
+        ):
+            tree = ast.parse(f"def f(rows, others, box, k, ys):\n    {head}\n    {loop}:\n        {row}")
+            self.assertEqual(len(chosen_and_changed(tree)), many, (head, row))
+
+    def test_items_that_are_walked_are_found(self):
+        for loop, row, found in (
+            ("for x in rows[k]", "rows[x] = k", True), ("for x in rows[k].items()", "rows.pop()", True),
+            ("for j, x in enumerate(box.rows[k])", "box.rows = x", True), ("for x in rows[k][0]", "del rows[0]", True),
+            ("for x in rows[1:]", "rows[x] = k", False), ("for x in rows[k]", "others[x] = k", False),
+        ):
+            tree = ast.parse(f"def f(rows, others, box, k):\n    {loop}:\n        pass\n    {row}")
+            self.assertEqual(bool(items_walked(tree)), found, loop)
 
     def test_sets(self):
         for path, tree in trees().items():
